@@ -1,0 +1,1 @@
+"""Askring: a ring of asks between a hand and its heart."""
