@@ -47,6 +47,22 @@ class LanguageTest(unittest.TestCase):
                     self.assertRegex(node.module, r"\Aaskring\.")
                     self.assertNotIn("*", [name.name for name in node.names])
 
+    def test_l16_names_come_from_where_they_are_defined_and_no_two_files_draw_from_one_another(self):
+        draws = {}
+        for path in FILES:
+            imports = nodes_of(path, ast.ImportFrom)
+            draws[path.stem] = {node.module.removeprefix("askring.") for node in imports}
+            for node in imports:
+                top = ast.parse((PACKAGE / f"{node.module.removeprefix('askring.')}.py").read_text()).body
+                defined = [part.name for part in top if isinstance(part, (ast.FunctionDef, ast.ClassDef))]
+                defined += [part.targets[0].id for part in top if isinstance(part, ast.Assign)]
+                self.assertEqual([name.name for name in node.names if name.name not in defined], [], path.name)
+        while draws:
+            bottom = [stem for stem in draws if not draws[stem] & set(draws)]
+            self.assertNotEqual(bottom, [], f"these draw from one another: {sorted(draws)}")
+            for stem in bottom:
+                draws.pop(stem)
+
     def test_l3_to_l7_forms(self):
         for path in FILES:
             with self.subTest(path=path.name):
