@@ -11,6 +11,10 @@ class Hand:
         self.names = names
         self.going = {}
 
+    # Its rings have nothing of their own but the store, which the yard sees to.
+    def become(self, one):
+        self.going = dict(one.going)
+
     def least_free(self):
         for name in range(self.names):
             if name not in self.going:

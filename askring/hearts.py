@@ -10,6 +10,10 @@ class Heart:
         self.answers = Ring(store, 1, ANSWERS, size, rounds, faults)
         self.doing = {}
 
+    # Its rings have nothing of their own but the store, which the yard sees to.
+    def become(self, one):
+        self.doing = dict(one.doing)
+
     def take(self):
         told = self.asks.fetch()
         if told is not None and told[0] is not None:

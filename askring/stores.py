@@ -8,6 +8,10 @@ class Store:
         self.held = {}
         self.rows = [[], []]
 
+    def become(self, one):
+        self.held = dict(one.held)
+        self.rows = [list(row) for row in one.rows]
+
     def write(self, side, cell, worth):
         self.rows[side].append((cell, worth))
 

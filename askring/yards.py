@@ -63,6 +63,7 @@ class Yard:
     def __init__(self, size, rounds, names, faults):
         self.size = size
         self.rounds = rounds_with(rounds, faults)
+        self.faults = tuple(faults)
         self.shelf = Store()
         self.hand = Hand(self.shelf, size, rounds, names, faults)
         self.heart = Heart(self.shelf, size, rounds, faults)
@@ -121,6 +122,20 @@ class Yard:
 
     def store(self):
         return self.shelf
+
+    # A yard just like this one, with nothing in common: to go on from here in several ways.
+    def twin(self):
+        other = Yard(self.size, self.rounds, self.hand.names, self.faults)
+        other.become(self)
+        return other
+
+    def become(self, one):
+        self.shelf.become(one.shelf)
+        self.hand.become(one.hand)
+        self.heart.become(one.heart)
+        self.sleepers = list(one.sleepers)
+        self.quiet = list(one.quiet)
+        self.happened = list(one.happened)
 
     # All refusals lie here, ahead of the doing: what is refused changes nothing.
     def check(self, some):

@@ -24,6 +24,11 @@ WORDS = """
 type typing typing_extensions enum Enum IntEnum StrEnum Flag IntFlag Generic Protocol ABC ABCMeta namedtuple NamedTuple
 TypedDict TYPE_CHECKING abstractmethod
 """.split()
+OWN_METHODS = """
+append clear copy count endswith extend find get index insert isalnum isalpha isdigit islower isspace isupper items
+join keys ljust lower lstrip partition pop remove replace reverse rfind rjust rpartition rsplit rstrip setdefault split
+splitlines startswith strip update upper values zfill bit_length
+""".split()
 
 
 def nodes_of(path, *kinds):
@@ -111,6 +116,23 @@ class LanguageTest(unittest.TestCase):
                 self.assertRegex(text, r"\A[ -~\n]*\Z")
                 self.assertEqual([word for word in WORDS if re.search(rf"\b{word}\b", text)], [])
                 self.assertNotRegex(text, "dataclass|overload|contextmanager")
+
+    def test_l15_no_local_is_called_like_a_class_an_import_or_a_name_of_pythons_own(self):
+        for path in FILES:
+            with self.subTest(path=path.name):
+                taken = [node.name for node in nodes_of(path, ast.ClassDef)]
+                taken += [name.name for node in nodes_of(path, ast.ImportFrom) for name in node.names]
+                names = [node.arg for node in nodes_of(path, ast.arg)]
+                names += [node.id for node in nodes_of(path, ast.Name) if isinstance(node.ctx, ast.Store)]
+                self.assertEqual([name for name in names if name in taken or hasattr(builtins, name)], [])
+
+    def test_l25_methods(self):
+        methods = [node.name for path in FILES for part in nodes_of(path, ast.ClassDef) for node in part.body
+                   if isinstance(node, ast.FunctionDef)]
+        for path in FILES:
+            with self.subTest(path=path.name):
+                called = [node.func.attr for node in nodes_of(path, ast.Call) if isinstance(node.func, ast.Attribute)]
+                self.assertEqual([name for name in called if name not in methods + OWN_METHODS], [])
 
     def test_l18_no_name_is_a_method_and_a_value(self):
         methods, values = set(), set()

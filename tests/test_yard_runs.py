@@ -4,7 +4,9 @@ import itertools
 import random
 import unittest
 
+from askring.allruns import errs
 from askring.errors import RingError
+from askring.stories import first_wrong
 from askring.yards import Yard
 
 SLEEPS = ("hand sleeps", "heart sleeps")
@@ -53,6 +55,8 @@ class RunCase(unittest.TestCase):
         """Of a yard without faults: points 17, 18, and what it tells by what its story tells."""
         story, state, store = yard.story(), yard.state(), yard.store()
         self.assertTrue(is_right(story), deeds)
+        self.assertIsNone(first_wrong(story), deeds)
+        self.assertFalse(errs(yard), deeds)
         size, rounds = yard.made()
         in_all, in_memory = self.counts(yard)
         for word in in_all:
@@ -178,9 +182,11 @@ class LongRunsTest(RunCase):
             names = 1 + number % 9
             with self.subTest(size=size, rounds=rounds, names=names):
                 yard = Yard(size, rounds, names, ())
-                for deed, deeds in self.go(yard, 500, random.Random(number)):
+                for deed, deeds in self.go(yard, 1000, random.Random(number)):
                     self.check_telling(yard, deed, self.counts(yard))
                     in_all, in_memory = self.counts(yard)
+                    self.assertIsNone(first_wrong(yard.story()), deeds)
+                    self.assertFalse(errs(yard), deeds)
                     self.check_refusals(yard, names, in_all, in_memory, deeds)
                     for side in (0, 1):
                         self.check_sleeper(yard, side, in_memory, deeds)

@@ -69,6 +69,41 @@ class MadeTest(YardCase):
         self.assertIsNot(one.store(), other.store())
 
 
+class TwinTest(YardCase):
+    def make_one(self, faults=()):
+        deeds = [("ask", 5), ("drain", 0), ("drain", 0), ("take",), ("ask", 7), ("drain", 0), ("answer", 0, 6),
+                 ("lie", 0), ("look", 0), ("drain", 1)]
+        self.make(2, 3, 4, faults, deeds)
+        return self.yard
+
+    def test_it_is_just_like_the_yard(self):
+        for faults in ((), ("bell",), ("counter",), ("lie",), ("look",), ("round",)):
+            one = self.make_one(faults)
+            told, made = self.all_told(), one.made()
+            self.yard = one.twin()
+            self.assertEqual((self.all_told(), self.yard.made()), (told, made))
+            for deed in [("lie", 1), ("look", 1), ("drain", 0), ("bell", 1), ("take",), ("ask", 1), ("ask", 1),
+                         ("collect",), ("bell", 0), ("drain", 1), ("take",)]:
+                told = []
+                for yard in (one, self.yard):
+                    try:
+                        told.append((yard.deed(deed), yard.state(), yard.story()))
+                    except RingError as error:
+                        told.append((type(error), yard.state(), yard.story()))
+                self.assertEqual(told[0], told[1], (faults, deed))
+
+    def test_they_have_nothing_in_common(self):
+        for first in (True, False):
+            one = self.make_one()
+            other = one.twin()
+            self.yard = one if first else other
+            told = self.all_told()
+            for deed in [("take",), ("bell", 1), ("collect",), ("ask", 8), ("lie", 1), ("look", 1), ("drain", 0)]:
+                (other if first else one).deed(deed)
+            self.assertEqual(self.all_told(), told)
+            self.assertIsNot(one.store(), other.store())
+
+
 class WorkTest(YardCase):
     def test_what_the_deeds_tell(self):
         deeds = [("ask", 5), ("ask", -6), ("take",), ("drain", 0), ("drain", 0), ("take",), ("take",),
